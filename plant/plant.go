@@ -3,10 +3,13 @@
 package plant
 
 import (
+	"strconv"
+
 	"tendril/api"
 	"tendril/mem"
 	"tendril/node"
 	"tendril/term"
+	"tendril/word"
 )
 
 // Program is what the programs of clients have in common.
@@ -101,4 +104,31 @@ func Kinds(l []api.Access) []int {
 		kinds = append(kinds, a.Kind)
 	}
 	return kinds
+}
+
+// Read returns the entries of the tree in a memory, and its text as package
+// shape tells it, of what is stored. What is locked, dead or not to be read
+// shows as a question mark.
+func Read(m *mem.Mem) ([]api.Entry, string) {
+	var l []api.Entry
+	text := read(m, m.Root(), &l)
+	return l, text
+}
+
+func read(m *mem.Mem, ref int, l *[]api.Entry) string {
+	words := m.Do(0, api.Access{Kind: api.ALoad, Ref: ref}).Words
+	if leaf, ok := node.DecodeLeaf(words); ok {
+		t, _ := term.Of(leaf.Key)
+		*l = append(*l, api.Entry{Term: t, Value: leaf.Value})
+		return "<" + strconv.Itoa(len(t)) + ":" + t + ">"
+	}
+	n, ok := node.Decode(words)
+	if !ok || !word.Free(n.Word) {
+		return "?"
+	}
+	text := "(" + strconv.Itoa(len(n.Prefix)) + ":" + n.Prefix
+	for i, kid := range n.Kids {
+		text += "[" + string(n.Keys[i:i+1]) + read(m, kid, l) + "]"
+	}
+	return text + ")"
 }
