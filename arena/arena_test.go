@@ -247,6 +247,11 @@ func TestStore(t *testing.T) {
 		t.Error(e)
 	}
 	holds(t, a, ref, padded(12))
+	full := []uint64{1, 2, 3, 4, 5, 6, 7, 8, 9, 10, 11, 12}
+	if e := a.Store(ref, full); e != api.OK {
+		t.Error(e)
+	}
+	holds(t, a, ref, full)
 }
 
 // P4.5: Swap changes a slot only if its first word is was.

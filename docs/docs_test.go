@@ -406,6 +406,22 @@ func TestJustEnoughRoom(t *testing.T) {
 	}
 }
 
+// P24.1: numbers of lists are used again, and a list begins without what it
+// had for another term.
+func TestManyTerms(t *testing.T) {
+	c := config()
+	c.Slots[api.CLeaf] = 6
+	x := create(t, c)
+	is(t, "Add", x.Add(0, "x"), api.OK)
+	for i := range 40 {
+		text := "a" + strconv.Itoa(i) + " x"
+		is(t, "Add", x.Add(i+1, text), api.OK)
+		holds(t, x, map[int]string{0: "x", i + 1: text})
+		is(t, "Remove", x.Remove(i+1), api.OK)
+	}
+	holds(t, x, map[int]string{0: "x"})
+}
+
 // R2: results are new memory.
 func TestNoSharedMemory(t *testing.T) {
 	x := create(t, config())

@@ -235,6 +235,90 @@ func TestScans(t *testing.T) {
 	}
 }
 
+// P17.3: what is done before a scan begins, or begins after it ended, does not
+// count for it.
+func TestScansBounds(t *testing.T) {
+	o := scan("", "", 16)
+	// a is put and dropped before the scan, b during it, c after it.
+	h := []api.Event{
+		begin(1, put("a", 1)), end(1), begin(1, drop("a")), end(1), begin(0, o), begin(1, put("b", 2)), end(1), end(0), begin(1, put("c", 3)), end(1),
+	}
+	l := []api.Done{at(1, 0, put("a", 1)), at(1, 2, drop("a")), at(0, 4, o), at(1, 5, put("b", 2)), at(1, 8, put("c", 3))}
+	l[1].Answer = found(1)
+	for i, c := range []struct {
+		list []api.Entry
+		want int
+	}{
+		{nil, -1}, {[]api.Entry{entry("b", 2)}, -1}, {[]api.Entry{entry("a", 1)}, 2}, {[]api.Entry{entry("c", 3)}, 2},
+		{[]api.Entry{entry("b", 2), entry("c", 3)}, 2},
+	} {
+		l[2].Answer.List = c.list
+		if got := lin.Scans(h, l); got != c.want {
+			t.Error(i, got)
+		}
+	}
+	// The scan counts from when it begins: b is there throughout the later one.
+	late := scan("b", "", 1)
+	h = append(h, begin(0, late), end(0))
+	l[2].Answer.List = nil
+	l = append(l, at(0, 10, late))
+	if got := lin.Scans(h, l); got != 5 {
+		t.Error(got)
+	}
+	// The first misfit in the list counts, whichever begins first.
+	l[2].Answer.List = []api.Entry{entry("x", 1)}
+	if got := lin.Scans(h, l); got != 2 {
+		t.Error(got)
+	}
+	l = []api.Done{l[5], l[2]}
+	l[0].Answer.List = []api.Entry{entry("x", 1)}
+	if got := lin.Scans(h, l); got != 0 {
+		t.Error(got)
+	}
+	if got := lin.Scans(h, l[1:]); got != 0 {
+		t.Error(got)
+	}
+	if got := lin.Scans(h, []api.Done{l[1], l[0]}); got != 0 {
+		t.Error(got)
+	}
+}
+
+// P17.3: begins that are no EBegin: an end is after a begin, never at it.
+func TestScansOddBegins(t *testing.T) {
+	o := scan("", "", 16)
+	h := []api.Event{begin(0, o), end(1), end(0), end(1)}
+	wrongList := api.Answer{List: []api.Entry{entry("x", 1)}}
+	for first, want := range map[int]int{-1: 0, 0: 0, 1: 0, 2: -1, 3: -1, 9: -1, math.MinInt: 0, math.MaxInt: -1} {
+		if got := lin.Scans(h, []api.Done{{Begin: first, Op: o, Answer: wrongList}}); got != want {
+			t.Error(first, got)
+		}
+	}
+	// The put ends where the scan begins, so that the scan may not see it; the
+	// one that begins where the scan ends is not seen.
+	l := []api.Done{at(1, 0, put("a", 1)), at(0, 1, o), at(1, 2, put("b", 1))}
+	for i, list := range [][]api.Entry{nil, {entry("a", 1)}, {entry("b", 1)}} {
+		l[1].Answer.List = list
+		if got := lin.Scans(h, l); got != []int{-1, -1, 1}[i] {
+			t.Error(i, got)
+		}
+	}
+}
+
+// P17.3: what had no room changes nothing during a scan.
+func TestScansAndFull(t *testing.T) {
+	o := scan("", "", 16)
+	full := api.Answer{Err: api.ErrFull}
+	h := []api.Event{begin(1, put("a", 1)), end(1), begin(0, o), begin(1, put("b", 2)), end(1), begin(1, drop("a")), end(1), end(0)}
+	l := []api.Done{at(1, 0, put("a", 1)), at(1, 3, put("b", 2)), at(1, 5, drop("a")), at(0, 2, o)}
+	l[1].Answer, l[2].Answer = full, full
+	for i, list := range [][]api.Entry{{entry("a", 1)}, nil, {entry("a", 1), entry("b", 2)}} {
+		l[3].Answer.List = list
+		if got := lin.Scans(h, l); got != []int{-1, 3, 3}[i] {
+			t.Error(i, got)
+		}
+	}
+}
+
 // P17.3: scans with an error or without an end, and other kinds, are ignored.
 func TestScansIgnored(t *testing.T) {
 	h, l := history(scan("", "", 16))

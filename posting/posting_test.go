@@ -166,6 +166,9 @@ func TestRemoveNeighbours(t *testing.T) {
 	// One that is not the last does not look at the one before it.
 	m = remove(t, remove(t, l, 9), 10)
 	has(t, m, count(0, 8), append(count(11, 17), count(18, 26)...), count(27, 34))
+	// The last of two blocks.
+	m = add(t, of(t, count(0, 15)...), 16)
+	has(t, remove(t, m, 9), append(count(0, 8), count(10, 16)...))
 	// The last id of a block.
 	m = of(t, append(count(0, 15), 20)...)
 	has(t, remove(t, m, 20), count(0, 15))

@@ -175,6 +175,8 @@ func TestProgram(t *testing.T) {
 		t.Error(took, p.Took(), a, ok)
 	}
 	answers(t, p, api.Answer{Found: true, Value: 2})
+	// What was changed in a result did not reach the program.
+	reads(t, m, []api.Entry{{Term: "aa", Value: 1}, {Term: "ab", Value: 9}})
 }
 
 // P12.2: the descent, as that of a get.
