@@ -36,18 +36,10 @@ func create(t *testing.T, c api.Config, ops ...[]api.Op) *tree.Tree {
 func planted(t *testing.T, terms ...string) *tree.Tree {
 	t.Helper()
 	x := create(t, config(1))
-	if !plant.Tree(x.Mem(), list(terms...)) {
+	if !plant.Tree(x.Mem(), plant.List(terms...)) {
 		t.Fatal("no room")
 	}
 	return x
-}
-
-func list(terms ...string) []api.Entry {
-	var l []api.Entry
-	for i, t := range terms {
-		l = append(l, api.Entry{Term: t, Value: i + 1})
-	}
-	return l
 }
 
 // sees compares what is seen of a tree.
@@ -62,16 +54,6 @@ func sees(t *testing.T, x *tree.Tree, want check.Look) {
 	}
 }
 
-func at(m *mem.Mem, ref int) api.Node {
-	n, _ := node.Decode(m.Do(0, api.Access{Kind: api.ALoad, Ref: ref}).Words)
-	return n
-}
-
-func child(m *mem.Mem, ref int, b byte) int {
-	kid, _ := node.Find(at(m, ref), b)
-	return kid
-}
-
 func store(m *mem.Mem, ref int, words []uint64) {
 	m.Do(0, api.Access{Kind: api.AStore, Ref: ref, Words: words})
 }
@@ -79,42 +61,42 @@ func store(m *mem.Mem, ref int, words []uint64) {
 func TestExampleRun(t *testing.T) {
 	x := create(t, config(1), []api.Op{put("a", 1), {Kind: api.OGet, Term: "a"}})
 	x.Play(make([]int, 14)...)
-	sees(t, x, check.Look{Entries: list("a"), Text: "(0:[a<1:a>])", Slots: 2, Fine: true})
+	sees(t, x, check.Look{Entries: plant.List("a"), Text: "(0:[a<1:a>])", Slots: 2, Fine: true})
 }
 
 // P16.1: what is seen of trees that are fine.
 func TestFine(t *testing.T) {
 	sees(t, planted(t), check.Look{Text: "(0:)", Slots: 1, Fine: true})
 	for terms, slots := range map[string]int{"a": 2, "a b": 3, "a ab": 4, "abcd abce b": 5, "a ab abc abcd": 8} {
-		l := list(strings.Fields(terms)...)
+		l := plant.List(strings.Fields(terms)...)
 		sees(t, planted(t, strings.Fields(terms)...), check.Look{Entries: l, Text: shape.Text(l), Slots: slots, Fine: true})
 	}
 	long := strings.Repeat("x", 12)
 	sees(t, planted(t, long[:11], long), check.Look{
-		Entries: list(long[:11], long), Text: shape.Text(list(long[:11], long)), Slots: 4, Fine: true,
+		Entries: plant.List(long[:11], long), Text: shape.Text(plant.List(long[:11], long)), Slots: 4, Fine: true,
 	})
 }
 
 // P16.1: a locked or dead node, or one with too few children, is seen as it is.
 func TestNodesThatAreSeen(t *testing.T) {
 	terms := []string{"aa", "ab", "b"}
-	want := check.Look{Entries: list(terms...), Text: shape.Text(list(terms...)), Slots: 5}
+	want := check.Look{Entries: plant.List(terms...), Text: shape.Text(plant.List(terms...)), Slots: 5}
 	for _, w := range []uint64{1, 2, 9, 14} {
 		for _, root := range []bool{true, false} {
 			x := planted(t, terms...)
 			ref := x.Mem().Root()
 			if !root {
-				ref = child(x.Mem(), ref, 'a')
+				ref = plant.Child(x.Mem(), ref, 'a')
 			}
-			n := at(x.Mem(), ref)
+			n := plant.At(x.Mem(), ref)
 			n.Word = w
 			store(x.Mem(), ref, node.Encode(n))
 			sees(t, x, want)
 		}
 	}
 	x := planted(t, terms...)
-	ref := child(x.Mem(), x.Mem().Root(), 'a')
-	n, _ := node.Without(at(x.Mem(), ref), 'b')
+	ref := plant.Child(x.Mem(), x.Mem().Root(), 'a')
+	n, _ := node.Without(plant.At(x.Mem(), ref), 'b')
 	store(x.Mem(), ref, node.Encode(n))
 	sees(t, x, check.Look{Entries: []api.Entry{{Term: "aa", Value: 1}, {Term: "b", Value: 3}}, Text: "(0:[a(0:[a<2:aa>])][b<1:b>])", Slots: 4})
 }
@@ -131,7 +113,7 @@ func TestBands(t *testing.T) {
 				n, _ = node.With(n, byte(b+1), r.N)
 			}
 			r := x.Mem().Do(0, api.Access{Kind: api.AAlloc, Class: kind, Words: node.Encode(n)})
-			root, _ := node.With(at(x.Mem(), x.Mem().Root()), 'a', r.N)
+			root, _ := node.With(plant.At(x.Mem(), x.Mem().Root()), 'a', r.N)
 			store(x.Mem(), x.Mem().Root(), node.Encode(root))
 			if l := check.At(x); l.Fine != (children == node.Low(kind)) || l.Slots != children+2 || len(l.Entries) != children {
 				t.Error(kind, children, l)
@@ -148,19 +130,19 @@ func TestPartsThatAreNotSeen(t *testing.T) {
 		change func(m *mem.Mem)
 		want   check.Look
 	}{
-		{func(m *mem.Mem) { m.Do(0, api.Access{Kind: api.AFree, Ref: child(m, m.Root(), 'a')}) },
+		{func(m *mem.Mem) { m.Do(0, api.Access{Kind: api.AFree, Ref: plant.Child(m, m.Root(), 'a')}) },
 			check.Look{Entries: b, Text: "(0:[a][b<1:b>])", Slots: 2}},
-		{func(m *mem.Mem) { store(m, child(m, m.Root(), 'a'), []uint64{0, 99}) },
+		{func(m *mem.Mem) { store(m, plant.Child(m, m.Root(), 'a'), []uint64{0, 99}) },
 			check.Look{Entries: b, Text: "(0:[a][b<1:b>])", Slots: 3}},
-		{func(m *mem.Mem) { m.Do(0, api.Access{Kind: api.AFree, Ref: child(m, m.Root(), 'b')}) },
-			check.Look{Entries: list("aa", "ab"), Text: "(0:[a(0:[a<2:aa>][b<2:ab>])][b])", Slots: 4}},
-		{func(m *mem.Mem) { store(m, child(m, m.Root(), 'b'), []uint64{1}) },
-			check.Look{Entries: list("aa", "ab"), Text: "(0:[a(0:[a<2:aa>][b<2:ab>])][b])", Slots: 5}},
+		{func(m *mem.Mem) { m.Do(0, api.Access{Kind: api.AFree, Ref: plant.Child(m, m.Root(), 'b')}) },
+			check.Look{Entries: plant.List("aa", "ab"), Text: "(0:[a(0:[a<2:aa>][b<2:ab>])][b])", Slots: 4}},
+		{func(m *mem.Mem) { store(m, plant.Child(m, m.Root(), 'b'), []uint64{1}) },
+			check.Look{Entries: plant.List("aa", "ab"), Text: "(0:[a(0:[a<2:aa>][b<2:ab>])][b])", Slots: 5}},
 		// A leaf whose key does not begin with its path.
-		{func(m *mem.Mem) { store(m, child(m, m.Root(), 'b'), node.EncodeLeaf(api.Leaf{Key: "c\x00"})) },
-			check.Look{Entries: list("aa", "ab"), Text: "(0:[a(0:[a<2:aa>][b<2:ab>])][b])", Slots: 5}},
+		{func(m *mem.Mem) { store(m, plant.Child(m, m.Root(), 'b'), node.EncodeLeaf(api.Leaf{Key: "c\x00"})) },
+			check.Look{Entries: plant.List("aa", "ab"), Text: "(0:[a(0:[a<2:aa>][b<2:ab>])][b])", Slots: 5}},
 		{func(m *mem.Mem) {
-			store(m, child(m, child(m, m.Root(), 'a'), 'b'), node.EncodeLeaf(api.Leaf{Key: "bb\x00"}))
+			store(m, plant.Child(m, plant.Child(m, m.Root(), 'a'), 'b'), node.EncodeLeaf(api.Leaf{Key: "bb\x00"}))
 		}, check.Look{Entries: []api.Entry{{Term: "aa", Value: 1}, {Term: "b", Value: 3}}, Text: "(0:[a(0:[a<2:aa>][b])][b<1:b>])", Slots: 5}},
 		{func(m *mem.Mem) { store(m, m.Root(), nil) }, check.Look{Slots: 1}},
 	} {
@@ -176,14 +158,14 @@ func TestPartsThatAreNotSeen(t *testing.T) {
 func TestLongPaths(t *testing.T) {
 	x := create(t, config(1))
 	m := x.Mem()
-	root, _ := node.With(at(m, m.Root()), 'r', m.Root())
+	root, _ := node.With(plant.At(m, m.Root()), 'r', m.Root())
 	store(m, m.Root(), node.Encode(root))
 	sees(t, x, check.Look{Text: strings.Repeat("(0:[r", 14) + strings.Repeat("])", 14), Slots: 14})
 	// The same below a prefix.
 	inner := m.Do(0, api.Access{Kind: api.AAlloc, Class: api.C4}).N
 	n := api.Node{Kind: api.C4, Prefix: strings.Repeat("p", 12), Keys: []byte("xy"), Kids: []int{inner, inner}}
 	store(m, inner, node.Encode(n))
-	root, _ = node.With(at(m, m.Root()), 'r', inner)
+	root, _ = node.With(plant.At(m, m.Root()), 'r', inner)
 	store(m, m.Root(), node.Encode(root))
 	sees(t, x, check.Look{Text: "(0:[r(12:pppppppppppp[x][y])])", Slots: 2})
 }

@@ -20,18 +20,10 @@ import (
 
 var config = api.Config{Slots: [api.Classes]int{300, 100, 30, 10, 3}, Clients: 4, Limbo: 6, Tries: 3}
 
-func list(terms ...string) []api.Entry {
-	var l []api.Entry
-	for i, t := range terms {
-		l = append(l, api.Entry{Term: t, Value: i + 1})
-	}
-	return l
-}
-
 func planted(t *testing.T, c api.Config, terms ...string) *mem.Mem {
 	t.Helper()
 	m, e := mem.New(c)
-	if e != api.OK || !plant.Tree(m, list(terms...)) {
+	if e != api.OK || !plant.Tree(m, plant.List(terms...)) {
 		t.Fatal(e)
 	}
 	return m
@@ -53,42 +45,14 @@ func answers(t *testing.T, p plant.Program, want api.Answer) {
 	}
 }
 
-func load(ref int) api.Access { return api.Access{Kind: api.ALoad, Ref: ref} }
-
-func at(m *mem.Mem, ref int) api.Node {
-	n, _ := node.Decode(m.Do(0, load(ref)).Words)
-	return n
-}
-
-func child(m *mem.Mem, ref int, b byte) int {
-	kid, _ := node.Find(at(m, ref), b)
-	return kid
-}
-
-func rewrite(m *mem.Mem, ref int, f func(uint64) uint64) {
-	w := m.Do(0, load(ref)).Words
-	w[0] = f(w[0])
-	m.Do(0, api.Access{Kind: api.AStore, Ref: ref, Words: w})
-}
-
-func lock(w uint64) uint64 {
-	w, _ = word.Lock(w)
-	return w
-}
-
 // until performs accesses of a program until it wants one of a kind.
 func until(t *testing.T, m *mem.Mem, p plant.Program, kind int) []api.Access {
 	t.Helper()
-	var l []api.Access
-	for range 99 {
-		if a, ok := p.Next(); ok && a.Kind == kind {
-			return l
-		}
-		a, _ := plant.Step(m, 0, p)
-		l = append(l, a)
+	l, ok := plant.Until(m, 0, p, kind, 99)
+	if !ok {
+		t.Fatal("no access of the kind", kind)
 	}
-	t.Fatal("no access of the kind", kind)
-	return nil
+	return l
 }
 
 func reads(t *testing.T, m *mem.Mem, want []api.Entry) {
@@ -127,7 +91,7 @@ func TestExampleRun(t *testing.T) {
 		t.Error(took)
 	}
 	answers(t, d, api.Answer{Found: true, Value: 2})
-	reads(t, m, list("a"))
+	reads(t, m, plant.List("a"))
 }
 
 // P13.1: which operations are drops.
@@ -209,16 +173,16 @@ func TestOtherLeaf(t *testing.T) {
 	}
 	answers(t, d, api.Answer{})
 	// A node that changed lets it start again, whatever became of it.
-	for _, change := range []func(uint64) uint64{word.Unlock, lock} {
+	for _, change := range []func(uint64) uint64{word.Unlock, plant.Lock} {
 		d = create(t, m, "xy")
 		plant.Finish(m, 0, d, 5)
-		was := at(m, m.Root()).Word
-		rewrite(m, m.Root(), change)
+		was := plant.At(m, m.Root()).Word
+		plant.Rewrite(m, m.Root(), change)
 		l, took = plant.Finish(m, 0, d, 1)
 		if a, _ := d.Next(); took != -1 || a.Kind != api.ATurn {
 			t.Error(took, a)
 		}
-		rewrite(m, m.Root(), func(uint64) uint64 { return was })
+		plant.Rewrite(m, m.Root(), func(uint64) uint64 { return was })
 		l, took = plant.Finish(m, 0, d, 99)
 		is(t, l, api.ATurn, api.ALoad, api.ALoad, api.ALoad, api.AUnpin)
 		if took != 3 {
@@ -237,10 +201,10 @@ func TestChange(t *testing.T) {
 		value  int
 		left   []api.Entry
 	}{
-		{"b", m.Root(), 4, list("aa", "ab", "ac")},
-		{"ac", child(m, m.Root(), 'a'), 3, list("aa", "ab")},
+		{"b", m.Root(), 4, plant.List("aa", "ab", "ac")},
+		{"ac", plant.Child(m, m.Root(), 'a'), 3, plant.List("aa", "ab")},
 	} {
-		old, was := child(m, c.parent, c.term[len(c.term)-1]), at(m, c.parent).Word
+		old, was := plant.Child(m, c.parent, c.term[len(c.term)-1]), plant.At(m, c.parent).Word
 		d := create(t, m, c.term)
 		until(t, m, d, api.ASwap)
 		l, took := plant.Finish(m, 0, d, 99)
@@ -259,7 +223,7 @@ func TestChangeFails(t *testing.T) {
 	m := planted(t, config, "a")
 	d := create(t, m, "a")
 	until(t, m, d, api.ASwap)
-	rewrite(m, m.Root(), word.Unlock)
+	plant.Rewrite(m, m.Root(), word.Unlock)
 	l, took := plant.Finish(m, 0, d, 99)
 	is(t, l, api.ASwap, api.ATurn, api.ALoad, api.ALoad, api.ASwap, api.ARetire, api.AUnpin)
 	if took != 4 {
@@ -284,14 +248,14 @@ func TestShrink(t *testing.T) {
 		// plant.Tree takes the smallest kind: the node is made as it must be.
 		terms := full(kind)
 		m := planted(t, config, terms...)
-		smaller := at(m, child(m, m.Root(), 'a'))
+		smaller := plant.At(m, plant.Child(m, m.Root(), 'a'))
 		n, _ := node.Turn(smaller, kind)
 		n.Word = 8
 		old := m.Do(0, api.Access{Kind: api.AAlloc, Class: kind, Words: node.Encode(n)}).N
-		m.Do(0, api.Access{Kind: api.AFree, Ref: child(m, m.Root(), 'a')})
-		root, _ := node.With(at(m, m.Root()), 'a', old)
+		m.Do(0, api.Access{Kind: api.AFree, Ref: plant.Child(m, m.Root(), 'a')})
+		root, _ := node.With(plant.At(m, m.Root()), 'a', old)
 		m.Do(0, api.Access{Kind: api.AStore, Ref: m.Root(), Words: node.Encode(root)})
-		leaf := child(m, old, 1)
+		leaf := plant.Child(m, old, 1)
 		d := create(t, m, terms[0])
 		until(t, m, d, api.AAlloc)
 		l, took := plant.Finish(m, 0, d, 99)
@@ -301,7 +265,7 @@ func TestShrink(t *testing.T) {
 			t.Error(took, l[0], l[4])
 		}
 		answers(t, d, api.Answer{Found: true, Value: 1})
-		if k := at(m, child(m, m.Root(), 'a')); k.Kind != kind-1 || k.Prefix != "x" || len(k.Keys) != node.Low(kind)-1 {
+		if k := plant.At(m, plant.Child(m, m.Root(), 'a')); k.Kind != kind-1 || k.Prefix != "x" || len(k.Keys) != node.Low(kind)-1 {
 			t.Error(k)
 		}
 	}
@@ -310,14 +274,14 @@ func TestShrink(t *testing.T) {
 // P13.2: case 3, a leaf that is left replaces the node.
 func TestLiftLeaf(t *testing.T) {
 	m := planted(t, config, "abcx", "abcy")
-	old := child(m, m.Root(), 'a')
-	x, y := child(m, old, 'x'), child(m, old, 'y')
+	old := plant.Child(m, m.Root(), 'a')
+	x, y := plant.Child(m, old, 'x'), plant.Child(m, old, 'y')
 	d := create(t, m, "abcx")
 	until(t, m, d, api.ASwap)
 	l, took := plant.Finish(m, 0, d, 99)
 	is(t, l, api.ASwap, api.ASwap, api.AStore, api.AStore, api.ARetire, api.ARetire, api.AUnpin)
 	refers(t, l, m.Root(), old, m.Root(), old, old, x, 0)
-	if took != 2 || child(m, m.Root(), 'a') != y {
+	if took != 2 || plant.Child(m, m.Root(), 'a') != y {
 		t.Error(took)
 	}
 	answers(t, d, api.Answer{Found: true, Value: 1})
@@ -327,9 +291,9 @@ func TestLiftLeaf(t *testing.T) {
 // P13.2: case 3, a node that is left replaces the node, with a combined prefix.
 func TestLiftNode(t *testing.T) {
 	m := planted(t, config, "abx", "abyzu", "abyzv")
-	old := child(m, m.Root(), 'a')
-	leaf, x := child(m, old, 'x'), child(m, old, 'y')
-	rewrite(m, x, func(uint64) uint64 { return 20 })
+	old := plant.Child(m, m.Root(), 'a')
+	leaf, x := plant.Child(m, old, 'x'), plant.Child(m, old, 'y')
+	plant.Rewrite(m, x, func(uint64) uint64 { return 20 })
 	d := create(t, m, "abx")
 	until(t, m, d, api.AAlloc)
 	l, took := plant.Finish(m, 0, d, 99)
@@ -351,19 +315,19 @@ func TestLiftNode(t *testing.T) {
 // dead, the program starts again.
 func TestChildLockedOrDead(t *testing.T) {
 	m := planted(t, config, "x", "xyzu", "xyzv")
-	old := child(m, m.Root(), 'x')
-	x := child(m, old, 'y')
+	old := plant.Child(m, m.Root(), 'x')
+	x := plant.Child(m, old, 'y')
 	d := create(t, m, "x")
 	plant.Finish(m, 0, d, 6)
-	rewrite(m, x, lock)
+	plant.Rewrite(m, x, plant.Lock)
 	for range 3 {
-		if a, _ := plant.Step(m, 0, d); !reflect.DeepEqual(a, load(x)) {
+		if a, _ := plant.Step(m, 0, d); !reflect.DeepEqual(a, plant.Load(x)) {
 			t.Error(a)
 		}
 	}
-	rewrite(m, x, word.Kill)
+	plant.Rewrite(m, x, word.Kill)
 	plant.Step(m, 0, d)
-	rewrite(m, x, word.Unlock)
+	plant.Rewrite(m, x, word.Unlock)
 	l, took := plant.Finish(m, 0, d, 99)
 	if took < 0 || l[0].Kind != api.ATurn {
 		t.Error(took, l)
@@ -381,11 +345,11 @@ func TestLocksFail(t *testing.T) {
 		{api.ASwap, api.ASwap, api.ASwap, api.AStore, api.AStore, api.AFree, api.ATurn},
 	} {
 		m := planted(t, config, terms...)
-		old := child(m, m.Root(), 'x')
-		refs := []int{m.Root(), old, child(m, old, 'y')}
+		old := plant.Child(m, m.Root(), 'x')
+		refs := []int{m.Root(), old, plant.Child(m, old, 'y')}
 		d := create(t, m, "x")
 		until(t, m, d, api.ASwap)
-		rewrite(m, refs[i], word.Unlock)
+		plant.Rewrite(m, refs[i], word.Unlock)
 		live := m.Live()
 		l, took := plant.Finish(m, 0, d, len(want))
 		is(t, l, want...)
@@ -398,7 +362,7 @@ func TestLocksFail(t *testing.T) {
 				t.Error(i, k, a)
 			}
 		}
-		reads(t, m, list(terms...))
+		reads(t, m, plant.List(terms...))
 		plant.Finish(m, 0, d, 99)
 		answers(t, d, api.Answer{Found: true, Value: 1})
 		reads(t, m, []api.Entry{{Term: "xyzu", Value: 2}, {Term: "xyzv", Value: 3}})
@@ -418,7 +382,7 @@ func TestNoRoom(t *testing.T) {
 		t.Error(took, m.Limbo(0))
 	}
 	answers(t, d, api.Answer{Err: api.ErrFull})
-	reads(t, m, list("x", "xyzu", "xyzv"))
+	reads(t, m, plant.List("x", "xyzu", "xyzv"))
 }
 
 // P13.2: the errors of loads are answers.
@@ -428,10 +392,10 @@ func TestLoadErrors(t *testing.T) {
 		gone func(m *mem.Mem) int
 		free int
 	}{
-		{"x", func(m *mem.Mem) int { return child(m, child(m, m.Root(), 'x'), 0) }, 5},
-		{"x", func(m *mem.Mem) int { return child(m, child(m, m.Root(), 'x'), 'y') }, 6},
-		{"xyzuu", func(m *mem.Mem) int { return child(m, child(m, m.Root(), 'x'), 'y') }, 7},
-		{"xyzu", func(m *mem.Mem) int { return child(m, m.Root(), 'x') }, 4},
+		{"x", func(m *mem.Mem) int { return plant.Child(m, plant.Child(m, m.Root(), 'x'), 0) }, 5},
+		{"x", func(m *mem.Mem) int { return plant.Child(m, plant.Child(m, m.Root(), 'x'), 'y') }, 6},
+		{"xyzuu", func(m *mem.Mem) int { return plant.Child(m, plant.Child(m, m.Root(), 'x'), 'y') }, 7},
+		{"xyzu", func(m *mem.Mem) int { return plant.Child(m, m.Root(), 'x') }, 4},
 	} {
 		m := planted(t, config, "x", "xyzu", "xyzv")
 		d := create(t, m, c.term)
@@ -449,17 +413,17 @@ func TestLoadErrors(t *testing.T) {
 // P13.1, P12.2: after enough tries the turnstile is taken, and given back.
 func TestTurnstile(t *testing.T) {
 	m := planted(t, config, "aa", "ab")
-	inner := child(m, m.Root(), 'a')
-	rewrite(m, inner, word.Kill)
+	inner := plant.Child(m, m.Root(), 'a')
+	plant.Rewrite(m, inner, word.Kill)
 	d := create(t, m, "ab")
 	l := until(t, m, d, api.ATake)
 	attempt := []int{api.ATurn, api.ALoad, api.ALoad}
 	is(t, l, slices.Concat([]int{api.AEpoch, api.APin}, attempt, attempt, attempt)...)
-	rewrite(m, inner, word.Unlock)
+	plant.Rewrite(m, inner, word.Unlock)
 	l, _ = plant.Finish(m, 0, d, 99)
 	is(t, l, api.ATake, api.ALoad, api.ALoad, api.ALoad, api.ASwap, api.ASwap, api.AStore, api.AStore,
 		api.ARetire, api.ARetire, api.AGive, api.AUnpin)
-	reads(t, m, list("aa"))
+	reads(t, m, plant.List("aa"))
 }
 
 // play performs all of a program, and frees what it retired.
@@ -470,24 +434,14 @@ func play(t *testing.T, m *mem.Mem, p plant.Program) api.Answer {
 	if !ok {
 		t.Fatal("not completed")
 	}
-	collect(m)
+	plant.Collect(m, config.Clients)
 	return a
-}
-
-func collect(m *mem.Mem) {
-	for range 2 {
-		m.Do(0, api.Access{Kind: api.AAdvance, N: m.Now()})
-	}
-	for c := range config.Clients {
-		for m.Do(c, api.Access{Kind: api.ACollect}).Ok {
-		}
-	}
 }
 
 // slots counts the slots of a tree, and checks the bands of its nodes.
 func slots(t *testing.T, m *mem.Mem, ref int) int {
 	t.Helper()
-	n, count := at(m, ref), 1
+	n, count := plant.At(m, ref), 1
 	if _, _, leaf, _ := word.Parts(ref); !leaf && ref != m.Root() && len(n.Keys) < node.Low(n.Kind) {
 		t.Error("below its band", n)
 	}
@@ -598,7 +552,7 @@ func TestTogether(t *testing.T) {
 				}
 			}
 			reads(t, m, entries)
-			collect(m)
+			plant.Collect(m, config.Clients)
 			if m.Live() != slots(t, m, m.Root()) || m.Do(0, api.Access{Kind: api.ATurn}).N != -1 {
 				t.Fatal(seed, m.Live(), slots(t, m, m.Root()))
 			}

@@ -42,32 +42,11 @@ func answers(t *testing.T, g *get.Get, want api.Answer) {
 	}
 }
 
-func load(ref int) api.Access { return api.Access{Kind: api.ALoad, Ref: ref} }
-
-// child returns the child of the node of ref for b.
-func child(m *mem.Mem, ref int, b byte) int {
-	n, _ := node.Decode(m.Do(0, load(ref)).Words)
-	kid, _ := node.Find(n, b)
-	return kid
-}
-
-// rewrite changes the Word of a node.
-func rewrite(m *mem.Mem, ref int, f func(uint64) uint64) {
-	w := m.Do(0, load(ref)).Words
-	w[0] = f(w[0])
-	m.Do(0, api.Access{Kind: api.AStore, Ref: ref, Words: w})
-}
-
-func lock(w uint64) uint64 {
-	w, _ = word.Lock(w)
-	return w
-}
-
 func TestExampleRun(t *testing.T) {
 	m := planted(t)
 	g := create(t, "a", m.Root())
 	l, took := plant.Finish(m, 0, g, 99)
-	want := []api.Access{{Kind: api.AEpoch}, {Kind: api.APin}, load(m.Root()), {Kind: api.AUnpin}}
+	want := []api.Access{{Kind: api.AEpoch}, {Kind: api.APin}, plant.Load(m.Root()), {Kind: api.AUnpin}}
 	if !reflect.DeepEqual(l, want) || took != 2 {
 		t.Error(l, took)
 	}
@@ -89,7 +68,7 @@ func TestNew(t *testing.T) {
 		g := create(t, strings.Repeat("a", 12), root)
 		g.Got(api.Result{})
 		g.Got(api.Result{Ok: true})
-		if a, ok := g.Next(); !ok || !reflect.DeepEqual(a, load(root)) {
+		if a, ok := g.Next(); !ok || !reflect.DeepEqual(a, plant.Load(root)) {
 			t.Error(root, a, ok)
 		}
 	}
@@ -118,7 +97,7 @@ func TestProgram(t *testing.T) {
 		if a, ok := g.Next(); ok || !reflect.DeepEqual(a, api.Access{}) {
 			t.Error(a, ok)
 		}
-		g.Got(m.Do(0, load(m.Root())))
+		g.Got(m.Do(0, plant.Load(m.Root())))
 		if g.Took() {
 			t.Error("took effect after completion")
 		}
@@ -149,8 +128,8 @@ func TestPin(t *testing.T) {
 func TestDescent(t *testing.T) {
 	m := planted(t, api.Entry{Term: "abcd", Value: 1}, api.Entry{Term: "abce", Value: 2}, api.Entry{Term: "b", Value: 3})
 	root := m.Root()
-	inner := child(m, root, 'a')
-	leaf := func(ref int, b byte) int { return child(m, ref, b) }
+	inner := plant.Child(m, root, 'a')
+	leaf := func(ref int, b byte) int { return plant.Child(m, ref, b) }
 	for _, c := range []struct {
 		term  string
 		loads []int
@@ -171,7 +150,7 @@ func TestDescent(t *testing.T) {
 	} {
 		want := []api.Access{{Kind: api.AEpoch}, {Kind: api.APin}}
 		for _, ref := range c.loads {
-			want = append(want, load(ref))
+			want = append(want, plant.Load(ref))
 		}
 		want = append(want, api.Access{Kind: api.AUnpin})
 		g := create(t, c.term, root)
@@ -185,30 +164,30 @@ func TestDescent(t *testing.T) {
 // P10.2: a locked node is loaded again, and after a dead one the root.
 func TestLockedAndDead(t *testing.T) {
 	m := planted(t, api.Entry{Term: "aa", Value: 1}, api.Entry{Term: "ab", Value: 2})
-	inner := child(m, m.Root(), 'a')
-	leaf := child(m, inner, 'b')
+	inner := plant.Child(m, m.Root(), 'a')
+	leaf := plant.Child(m, inner, 'b')
 	for _, ref := range []int{m.Root(), inner} {
 		g := create(t, "ab", m.Root())
 		plant.Finish(m, 0, g, 2)
 		if ref == inner {
 			plant.Step(m, 0, g)
 		}
-		rewrite(m, ref, lock)
+		plant.Rewrite(m, ref, plant.Lock)
 		for range 5 {
-			if a, _ := plant.Step(m, 0, g); !reflect.DeepEqual(a, load(ref)) || g.Took() {
+			if a, _ := plant.Step(m, 0, g); !reflect.DeepEqual(a, plant.Load(ref)) || g.Took() {
 				t.Error(a, g.Took())
 			}
 		}
-		rewrite(m, ref, word.Kill)
-		if a, _ := plant.Step(m, 0, g); !reflect.DeepEqual(a, load(ref)) {
+		plant.Rewrite(m, ref, word.Kill)
+		if a, _ := plant.Step(m, 0, g); !reflect.DeepEqual(a, plant.Load(ref)) {
 			t.Error(a)
 		}
-		if a, _ := g.Next(); !reflect.DeepEqual(a, load(m.Root())) {
+		if a, _ := g.Next(); !reflect.DeepEqual(a, plant.Load(m.Root())) {
 			t.Error(a)
 		}
-		rewrite(m, ref, word.Unlock)
+		plant.Rewrite(m, ref, word.Unlock)
 		l, took := plant.Finish(m, 0, g, 99)
-		if want := []api.Access{load(m.Root()), load(inner), load(leaf), {Kind: api.AUnpin}}; !reflect.DeepEqual(l, want) || took != 1 {
+		if want := []api.Access{plant.Load(m.Root()), plant.Load(inner), plant.Load(leaf), {Kind: api.AUnpin}}; !reflect.DeepEqual(l, want) || took != 1 {
 			t.Error(l, took)
 		}
 		answers(t, g, api.Answer{Found: true, Value: 2})
@@ -226,7 +205,7 @@ func TestLoadErrors(t *testing.T) {
 	// At a leaf the operation took effect before.
 	g = create(t, "a", m.Root())
 	_, took := plant.Finish(m, 0, g, 3)
-	m.Do(0, api.Access{Kind: api.AFree, Ref: child(m, m.Root(), 'a')})
+	m.Do(0, api.Access{Kind: api.AFree, Ref: plant.Child(m, m.Root(), 'a')})
 	if l, late := plant.Finish(m, 0, g, 99); len(l) != 2 || took != 2 || late != -1 {
 		t.Error(l, took, late)
 	}

@@ -19,18 +19,10 @@ import (
 
 var config = api.Config{Slots: [api.Classes]int{300, 100, 30, 10, 2}, Clients: 4, Limbo: 4, Tries: 3}
 
-func list(terms ...string) []api.Entry {
-	var l []api.Entry
-	for i, t := range terms {
-		l = append(l, api.Entry{Term: t, Value: i + 1})
-	}
-	return l
-}
-
 func planted(t *testing.T, c api.Config, terms ...string) *mem.Mem {
 	t.Helper()
 	m, e := mem.New(c)
-	if e != api.OK || !plant.Tree(m, list(terms...)) {
+	if e != api.OK || !plant.Tree(m, plant.List(terms...)) {
 		t.Fatal(e)
 	}
 	return m
@@ -52,42 +44,14 @@ func answers(t *testing.T, p *put.Put, want api.Answer) {
 	}
 }
 
-func load(ref int) api.Access { return api.Access{Kind: api.ALoad, Ref: ref} }
-
-func at(m *mem.Mem, ref int) api.Node {
-	n, _ := node.Decode(m.Do(0, load(ref)).Words)
-	return n
-}
-
-func child(m *mem.Mem, ref int, b byte) int {
-	kid, _ := node.Find(at(m, ref), b)
-	return kid
-}
-
-func rewrite(m *mem.Mem, ref int, f func(uint64) uint64) {
-	w := m.Do(0, load(ref)).Words
-	w[0] = f(w[0])
-	m.Do(0, api.Access{Kind: api.AStore, Ref: ref, Words: w})
-}
-
-func lock(w uint64) uint64 {
-	w, _ = word.Lock(w)
-	return w
-}
-
 // until performs accesses of p until it wants one of a kind.
 func until(t *testing.T, m *mem.Mem, client int, p *put.Put, kind int) []api.Access {
 	t.Helper()
-	var l []api.Access
-	for range 99 {
-		if a, ok := p.Next(); ok && a.Kind == kind {
-			return l
-		}
-		a, _ := plant.Step(m, client, p)
-		l = append(l, a)
+	l, ok := plant.Until(m, client, p, kind, 99)
+	if !ok {
+		t.Fatal("no access of the kind", kind)
 	}
-	t.Fatal("no access of the kind", kind)
-	return nil
+	return l
 }
 
 // reads compares the tree with entries, and its shape.
@@ -183,11 +147,11 @@ func TestProgram(t *testing.T) {
 func TestDescent(t *testing.T) {
 	m := planted(t, config, "abcd", "abce")
 	m.Do(1, api.Access{Kind: api.AAdvance})
-	inner := child(m, m.Root(), 'a')
+	inner := plant.Child(m, m.Root(), 'a')
 	p := create(t, m, "abce", 9)
 	l := until(t, m, 0, p, api.AAlloc)
 	want := []api.Access{
-		{Kind: api.AEpoch}, {Kind: api.APin, N: 1}, {Kind: api.ATurn}, load(m.Root()), load(inner), load(child(m, inner, 'e')),
+		{Kind: api.AEpoch}, {Kind: api.APin, N: 1}, {Kind: api.ATurn}, plant.Load(m.Root()), plant.Load(inner), plant.Load(plant.Child(m, inner, 'e')),
 	}
 	if !reflect.DeepEqual(l, want) {
 		t.Error(l)
@@ -197,21 +161,21 @@ func TestDescent(t *testing.T) {
 // P12.2: a locked node is loaded again; after a dead one an attempt begins.
 func TestLockedAndDead(t *testing.T) {
 	m := planted(t, config, "aa", "ab")
-	inner := child(m, m.Root(), 'a')
+	inner := plant.Child(m, m.Root(), 'a')
 	p := create(t, m, "ac", 9)
 	plant.Finish(m, 0, p, 4)
-	rewrite(m, inner, lock)
+	plant.Rewrite(m, inner, plant.Lock)
 	for range 4 {
-		if a, _ := plant.Step(m, 0, p); !reflect.DeepEqual(a, load(inner)) {
+		if a, _ := plant.Step(m, 0, p); !reflect.DeepEqual(a, plant.Load(inner)) {
 			t.Error(a)
 		}
 	}
-	rewrite(m, inner, word.Kill)
+	plant.Rewrite(m, inner, word.Kill)
 	plant.Step(m, 0, p)
 	if a, _ := p.Next(); !reflect.DeepEqual(a, api.Access{Kind: api.ATurn}) {
 		t.Error(a)
 	}
-	rewrite(m, inner, word.Unlock)
+	plant.Rewrite(m, inner, word.Unlock)
 	l, took := plant.Finish(m, 0, p, 99)
 	is(t, l, api.ATurn, api.ALoad, api.ALoad, api.AAlloc, api.ASwap, api.AUnpin)
 	if took != 4 {
@@ -222,8 +186,8 @@ func TestLockedAndDead(t *testing.T) {
 // P12.2: after enough tries the turnstile is taken, and given back at the end.
 func TestTurnstile(t *testing.T) {
 	m := planted(t, config, "aa", "ab")
-	inner := child(m, m.Root(), 'a')
-	rewrite(m, inner, word.Kill)
+	inner := plant.Child(m, m.Root(), 'a')
+	plant.Rewrite(m, inner, word.Kill)
 	p := create(t, m, "ac", 9)
 	l := until(t, m, 0, p, api.ATake)
 	attempt := []int{api.ATurn, api.ALoad, api.ALoad}
@@ -239,7 +203,7 @@ func TestTurnstile(t *testing.T) {
 	l, _ = plant.Finish(m, 0, p, 5)
 	// It holds it now, and needs nothing more at the next attempts.
 	is(t, l, api.ATake, api.ALoad, api.ALoad, api.ALoad, api.ALoad)
-	rewrite(m, inner, word.Unlock)
+	plant.Rewrite(m, inner, word.Unlock)
 	until(t, m, 0, p, api.AAlloc)
 	// The others wait before their attempts.
 	q := create(t, m, "b", 1)
@@ -268,7 +232,7 @@ func TestLoadErrors(t *testing.T) {
 	answers(t, p, api.Answer{Err: api.ErrArg})
 	// Of a leaf.
 	p = create(t, m, "a", 1)
-	m.Do(0, api.Access{Kind: api.AFree, Ref: child(m, m.Root(), 'a')})
+	m.Do(0, api.Access{Kind: api.AFree, Ref: plant.Child(m, m.Root(), 'a')})
 	l, took = plant.Finish(m, 0, p, 99)
 	is(t, l, api.AEpoch, api.APin, api.ATurn, api.ALoad, api.ALoad, api.AUnpin)
 	if took != 4 {
@@ -276,8 +240,8 @@ func TestLoadErrors(t *testing.T) {
 	}
 	answers(t, p, api.Answer{Err: api.ErrGen})
 	// While it holds the turnstile.
-	inner := child(m, m.Root(), 'b')
-	rewrite(m, inner, word.Kill)
+	inner := plant.Child(m, m.Root(), 'b')
+	plant.Rewrite(m, inner, word.Kill)
 	p = create(t, m, "bc", 1)
 	until(t, m, 0, p, api.ATake)
 	plant.Finish(m, 0, p, 2)
@@ -301,7 +265,7 @@ func words(a api.Access) (api.Node, api.Leaf) {
 func TestSplitPrefix(t *testing.T) {
 	m := planted(t, config, "abcdx", "abcdy")
 	root := m.Root()
-	old := child(m, root, 'a')
+	old := plant.Child(m, root, 'a')
 	p := create(t, m, "abz", 7)
 	l, took := plant.Finish(m, 0, p, 99)
 	is(t, l, api.AEpoch, api.APin, api.ATurn, api.ALoad, api.ALoad, api.AAlloc, api.AAlloc, api.AAlloc,
@@ -322,7 +286,7 @@ func TestSplitPrefix(t *testing.T) {
 	}
 	answers(t, p, api.Answer{})
 	reads(t, m, []api.Entry{{Term: "abcdx", Value: 1}, {Term: "abcdy", Value: 2}, {Term: "abz", Value: 7}})
-	if n := at(m, old); !word.Dead(n.Word) || m.Limbo(0) != 1 {
+	if n := plant.At(m, old); !word.Dead(n.Word) || m.Limbo(0) != 1 {
 		t.Error(n.Word, m.Limbo(0))
 	}
 }
@@ -330,8 +294,8 @@ func TestSplitPrefix(t *testing.T) {
 // P12.4: case 2, a node with room gets a leaf.
 func TestAddLeaf(t *testing.T) {
 	m := planted(t, config, "aa", "ab")
-	old := child(m, m.Root(), 'a')
-	was := at(m, old).Word
+	old := plant.Child(m, m.Root(), 'a')
+	was := plant.At(m, old).Word
 	p := create(t, m, "a", 7)
 	l, took := plant.Finish(m, 0, p, 99)
 	is(t, l, api.AEpoch, api.APin, api.ATurn, api.ALoad, api.ALoad, api.AAlloc, api.ASwap, api.AUnpin)
@@ -350,7 +314,7 @@ func TestGrow(t *testing.T) {
 			terms = append(terms, "a"+string([]byte{byte(b + 1)}))
 		}
 		m := planted(t, config, terms...)
-		old := child(m, m.Root(), 'a')
+		old := plant.Child(m, m.Root(), 'a')
 		p := create(t, m, "a\xff", 0)
 		l, took := plant.Finish(m, 0, p, 99)
 		is(t, l, api.AEpoch, api.APin, api.ATurn, api.ALoad, api.ALoad, api.AAlloc, api.AAlloc,
@@ -371,17 +335,17 @@ func TestGrow(t *testing.T) {
 		}
 		answers(t, p, api.Answer{})
 		l2, _ := plant.Read(m)
-		if len(l2) != node.High(kind)+1 || at(m, child(m, m.Root(), 'a')).Kind != kind+1 {
+		if len(l2) != node.High(kind)+1 || plant.At(m, plant.Child(m, m.Root(), 'a')).Kind != kind+1 {
 			t.Error(l2)
 		}
-		reads(t, m, append(list(terms...), api.Entry{Term: "a\xff"}))
+		reads(t, m, append(plant.List(terms...), api.Entry{Term: "a\xff"}))
 	}
 }
 
 // P12.4: case 4, a leaf of the same key is replaced.
 func TestReplaceLeaf(t *testing.T) {
 	m := planted(t, config, "a", "b")
-	old := child(m, m.Root(), 'b')
+	old := plant.Child(m, m.Root(), 'b')
 	p := create(t, m, "b", 7)
 	l, took := plant.Finish(m, 0, p, 99)
 	is(t, l, api.AEpoch, api.APin, api.ATurn, api.ALoad, api.ALoad, api.AAlloc, api.ASwap, api.ARetire, api.AUnpin)
@@ -398,7 +362,7 @@ func TestForkLeaf(t *testing.T) {
 		{"abcd", "abce", "bc"}, {"ab", "a", ""}, {"a", "ab", ""}, {"abcdefghijkl", "abcdefghijkm", "bcdefghijk"},
 	} {
 		m := planted(t, config, c.old)
-		old := child(m, m.Root(), 'a')
+		old := plant.Child(m, m.Root(), 'a')
 		p := create(t, m, c.own, 7)
 		l, took := plant.Finish(m, 0, p, 99)
 		is(t, l, api.AEpoch, api.APin, api.ATurn, api.ALoad, api.ALoad, api.AAlloc, api.AAlloc, api.ASwap, api.AUnpin)
@@ -434,7 +398,7 @@ func TestNoRoom(t *testing.T) {
 			t.Error("the leaf is not freed last", l)
 		}
 		answers(t, p, api.Answer{Err: api.ErrFull})
-		reads(t, m, list("abcdx", "abcdy"))
+		reads(t, m, plant.List("abcdx", "abcdy"))
 	}
 }
 
@@ -447,7 +411,7 @@ func TestNoRoomForAnotherValue(t *testing.T) {
 	if m.Limbo(0) != 0 {
 		t.Error(m.Limbo(0))
 	}
-	reads(t, m, list("a"))
+	reads(t, m, plant.List("a"))
 }
 
 // P12.4: if the node changed, everything is freed, and an attempt begins.
@@ -471,7 +435,7 @@ func TestAnswerOfLastAttempt(t *testing.T) {
 	m := planted(t, config, "a", "b")
 	p := create(t, m, "a", 7)
 	until(t, m, 0, p, api.ASwap)
-	n := at(m, m.Root())
+	n := plant.At(m, m.Root())
 	n, _ = node.Without(n, 'a')
 	n.Word = word.Unlock(n.Word)
 	m.Do(1, api.Access{Kind: api.AStore, Ref: m.Root(), Words: node.Encode(n)})
@@ -486,49 +450,28 @@ func TestLocksFail(t *testing.T) {
 	terms := []string{"aa", "ab", "ac", "ad"}
 	for _, parent := range []bool{true, false} {
 		m := planted(t, config, terms...)
-		inner := child(m, m.Root(), 'a')
+		inner := plant.Child(m, m.Root(), 'a')
 		p := create(t, m, "ae", 7)
 		until(t, m, 0, p, api.ASwap)
 		live := m.Live()
 		want := []int{api.ASwap, api.AFree, api.AFree, api.ATurn}
 		if ref := m.Root(); parent {
-			rewrite(m, ref, word.Unlock)
+			plant.Rewrite(m, ref, word.Unlock)
 		} else {
-			rewrite(m, inner, word.Unlock)
+			plant.Rewrite(m, inner, word.Unlock)
 			want = []int{api.ASwap, api.ASwap, api.AStore, api.AFree, api.AFree, api.ATurn}
 		}
-		before := at(m, m.Root())
+		before := plant.At(m, m.Root())
 		l, took := plant.Finish(m, 0, p, len(want))
 		is(t, l, want...)
-		after := at(m, m.Root())
+		after := plant.At(m, m.Root())
 		if took != -1 || m.Live() != live-2 || !word.Free(after.Word) || !parent && after.Word != word.Unlock(before.Word) {
 			t.Error(parent, took, m.Live(), after.Word)
 		}
-		reads(t, m, list(terms...))
+		reads(t, m, plant.List(terms...))
 		plant.Finish(m, 0, p, 99)
-		reads(t, m, append(list(terms...), api.Entry{Term: "ae", Value: 7}))
+		reads(t, m, append(plant.List(terms...), api.Entry{Term: "ae", Value: 7}))
 	}
-}
-
-// collect lets the epoch advance and frees what was retired, if all clients
-// are idle.
-func collect(m *mem.Mem) {
-	for range 2 {
-		m.Do(0, api.Access{Kind: api.AAdvance, N: m.Now()})
-	}
-	for c := range config.Clients {
-		for m.Do(c, api.Access{Kind: api.ACollect}).Ok {
-		}
-	}
-}
-
-// slots counts the slots of a tree.
-func slots(m *mem.Mem, ref int) int {
-	n := 1
-	for _, kid := range at(m, ref).Kids {
-		n += slots(m, kid)
-	}
-	return n
 }
 
 // effect is a put that took effect.
@@ -591,9 +534,9 @@ func TestTogether(t *testing.T) {
 				entries = more
 			}
 			reads(t, m, entries)
-			collect(m)
-			if m.Live() != slots(m, m.Root()) || m.Do(0, api.Access{Kind: api.ATurn}).N != -1 {
-				t.Fatal(seed, m.Live(), slots(m, m.Root()))
+			plant.Collect(m, config.Clients)
+			if m.Live() != plant.Slots(m, m.Root()) || m.Do(0, api.Access{Kind: api.ATurn}).N != -1 {
+				t.Fatal(seed, m.Live(), plant.Slots(m, m.Root()))
 			}
 		}
 	}

@@ -18,14 +18,6 @@ import (
 
 var config = api.Config{Slots: [api.Classes]int{400, 200, 40, 4, 2}, Clients: 2, Limbo: 4, Tries: 3}
 
-func list(terms ...string) []api.Entry {
-	var l []api.Entry
-	for i, t := range terms {
-		l = append(l, api.Entry{Term: t, Value: i + 1})
-	}
-	return l
-}
-
 func planted(t *testing.T, l ...api.Entry) *mem.Mem {
 	t.Helper()
 	m, e := mem.New(config)
@@ -52,30 +44,11 @@ func answers(t *testing.T, s *scan.Scan, want ...api.Entry) {
 	}
 }
 
-func load(ref int) api.Access { return api.Access{Kind: api.ALoad, Ref: ref} }
-
-func child(m *mem.Mem, ref int, b byte) int {
-	n, _ := node.Decode(m.Do(0, load(ref)).Words)
-	kid, _ := node.Find(n, b)
-	return kid
-}
-
-func rewrite(m *mem.Mem, ref int, f func(uint64) uint64) {
-	w := m.Do(0, load(ref)).Words
-	w[0] = f(w[0])
-	m.Do(0, api.Access{Kind: api.AStore, Ref: ref, Words: w})
-}
-
-func lock(w uint64) uint64 {
-	w, _ = word.Lock(w)
-	return w
-}
-
 func TestExampleRun(t *testing.T) {
 	m := planted(t)
 	s := create(t, "", "", 3, m.Root())
 	l, took := plant.Finish(m, 0, s, 99)
-	want := []api.Access{{Kind: api.AEpoch}, {Kind: api.APin}, load(m.Root()), {Kind: api.AUnpin}}
+	want := []api.Access{{Kind: api.AEpoch}, {Kind: api.APin}, plant.Load(m.Root()), {Kind: api.AUnpin}}
 	if !reflect.DeepEqual(l, want) || took != 3 {
 		t.Error(l, took)
 	}
@@ -105,7 +78,7 @@ func TestNew(t *testing.T) {
 
 // P10, P11.2: Next repeats itself, and the operation takes effect at its end.
 func TestProgram(t *testing.T) {
-	m := planted(t, list("a")...)
+	m := planted(t, plant.List("a")...)
 	s := create(t, "", "", 1, m.Root())
 	for {
 		a, ok := s.Next()
@@ -130,17 +103,17 @@ func TestProgram(t *testing.T) {
 	}
 	a, _ := s.Answer()
 	a.List[0].Term = "?"
-	answers(t, s, list("a")...)
+	answers(t, s, plant.List("a")...)
 }
 
 // P11.2: children that lie before the target are not loaded.
 func TestAccesses(t *testing.T) {
-	m := planted(t, list("a", "abc", "abd", "c", "ca", "d")...)
+	m := planted(t, plant.List("a", "abc", "abd", "c", "ca", "d")...)
 	root := m.Root()
-	a, c := child(m, root, 'a'), child(m, root, 'c')
-	ab := child(m, a, 'b')
-	leafA, abc, abd := child(m, a, 0), child(m, ab, 'c'), child(m, ab, 'd')
-	leafC, ca, d := child(m, c, 0), child(m, c, 'a'), child(m, root, 'd')
+	a, c := plant.Child(m, root, 'a'), plant.Child(m, root, 'c')
+	ab := plant.Child(m, a, 'b')
+	leafA, abc, abd := plant.Child(m, a, 0), plant.Child(m, ab, 'c'), plant.Child(m, ab, 'd')
+	leafC, ca, d := plant.Child(m, c, 0), plant.Child(m, c, 'a'), plant.Child(m, root, 'd')
 	for _, k := range []struct {
 		from, to string
 		most     int
@@ -165,7 +138,7 @@ func TestAccesses(t *testing.T) {
 		l, took := plant.Finish(m, 0, s, 99)
 		want := []api.Access{{Kind: api.AEpoch}, {Kind: api.APin}}
 		for _, ref := range k.loads {
-			want = append(want, load(ref))
+			want = append(want, plant.Load(ref))
 		}
 		want = append(want, api.Access{Kind: api.AUnpin})
 		if !reflect.DeepEqual(l, want) || took != len(want)-1 {
@@ -195,27 +168,27 @@ func TestPin(t *testing.T) {
 // P11.2: a locked node is loaded again; after a dead one the scan starts at the
 // root with what it found.
 func TestLockedAndDead(t *testing.T) {
-	l := list("aa", "ab", "ba", "bb")
+	l := plant.List("aa", "ab", "ba", "bb")
 	m := planted(t, l...)
 	root := m.Root()
-	a, b := child(m, root, 'a'), child(m, root, 'b')
+	a, b := plant.Child(m, root, 'a'), plant.Child(m, root, 'b')
 	s := create(t, "", "", 9, root)
 	plant.Finish(m, 0, s, 6)
-	rewrite(m, b, lock)
+	plant.Rewrite(m, b, plant.Lock)
 	for range 4 {
-		if x, _ := plant.Step(m, 0, s); !reflect.DeepEqual(x, load(b)) {
+		if x, _ := plant.Step(m, 0, s); !reflect.DeepEqual(x, plant.Load(b)) {
 			t.Error(x)
 		}
 	}
-	rewrite(m, b, word.Kill)
+	plant.Rewrite(m, b, word.Kill)
 	plant.Step(m, 0, s)
-	if x, _ := s.Next(); !reflect.DeepEqual(x, load(root)) {
+	if x, _ := s.Next(); !reflect.DeepEqual(x, plant.Load(root)) {
 		t.Error(x)
 	}
-	rewrite(m, b, word.Unlock)
+	plant.Rewrite(m, b, word.Unlock)
 	got, _ := plant.Finish(m, 0, s, 99)
 	// The child for a may still lead to the target ab\0; its leaf aa may not.
-	want := []api.Access{load(root), load(a), load(child(m, a, 'b')), load(b), load(child(m, b, 'a')), load(child(m, b, 'b')), {Kind: api.AUnpin}}
+	want := []api.Access{plant.Load(root), plant.Load(a), plant.Load(plant.Child(m, a, 'b')), plant.Load(b), plant.Load(plant.Child(m, b, 'a')), plant.Load(plant.Child(m, b, 'b')), {Kind: api.AUnpin}}
 	if !reflect.DeepEqual(got, want) {
 		t.Error(got, want)
 	}
@@ -224,8 +197,8 @@ func TestLockedAndDead(t *testing.T) {
 
 // P11.2: after an error there are no terms.
 func TestLoadErrors(t *testing.T) {
-	m := planted(t, list("a", "b")...)
-	m.Do(0, api.Access{Kind: api.AFree, Ref: child(m, m.Root(), 'b')})
+	m := planted(t, plant.List("a", "b")...)
+	m.Do(0, api.Access{Kind: api.AFree, Ref: plant.Child(m, m.Root(), 'b')})
 	s := create(t, "", "", 9, m.Root())
 	l, took := plant.Finish(m, 0, s, 99)
 	if len(l) != 6 || took != 5 || l[5].Kind != api.AUnpin {
@@ -258,7 +231,7 @@ func TestRanges(t *testing.T) {
 		}
 	}
 	slices.Sort(terms)
-	l := list(slices.Compact(terms)...)
+	l := plant.List(slices.Compact(terms)...)
 	m := planted(t, l...)
 	for range 2000 {
 		from, to, most := random(7), random(7), 1+r.Intn(16)
@@ -276,12 +249,12 @@ func TestRanges(t *testing.T) {
 
 // P11.3: a node is scanned as it was loaded, whatever becomes of it.
 func TestNodesAsLoaded(t *testing.T) {
-	m := planted(t, list("a", "b", "c")...)
+	m := planted(t, plant.List("a", "b", "c")...)
 	s := create(t, "", "", 9, m.Root())
 	plant.Finish(m, 0, s, 4)
 	m.Do(0, api.Access{Kind: api.AStore, Ref: m.Root(), Words: node.Encode(api.Node{Kind: api.C256, Word: 4})})
 	plant.Finish(m, 0, s, 99)
-	answers(t, s, list("a", "b", "c")...)
+	answers(t, s, plant.List("a", "b", "c")...)
 }
 
 // R1: results that no memory returns.
