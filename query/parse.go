@@ -11,7 +11,8 @@ func Parse(s string) ([]api.Part, api.Errno) {
 		return nil, api.ErrLong
 	}
 	p := parser{text: s}
-	if p.disjunction(0) && !p.atEnd() {
+	// A factor within no other one is one level deep, not none.
+	if p.disjunction(1) && !p.atEnd() {
 		p.refuse(api.ErrQuery)
 	}
 	if p.err != api.OK {

@@ -184,36 +184,63 @@ func TestManyParts(t *testing.T) {
 	}
 }
 
-// P23.2: a factor is nested at most so deep.
+// P23.2: a factor is nested at most so deep; one within no other one is one
+// level deep.
 func TestNesting(t *testing.T) {
 	long := strings.Repeat("x", 13)
 	open := func(n int) string { return strings.Repeat("(", n) }
 	shut := func(n int) string { return strings.Repeat(")", n) }
-	for s, want := range map[string]api.Errno{
-		open(64) + "a" + shut(64):                           api.OK,
-		open(64) + "a b" + shut(64) + "c":                   api.OK,
-		open(65) + "a" + shut(65):                           api.ErrLong,
-		open(65):                                            api.ErrLong,
-		open(65) + ")":                                      api.ErrLong,
-		open(65) + long:                                     api.ErrLong,
-		open(64):                                            api.ErrQuery,
-		open(64) + ")":                                      api.ErrQuery,
-		open(64) + long:                                     api.ErrTerm,
-		open(64) + "a !":                                    api.ErrLong,
-		open(64) + "!" + long:                               api.ErrLong,
-		open(63) + "!a" + shut(63):                          api.OK,
-		open(63) + "a!a" + shut(63) + "(b)":                 api.OK,
-		open(63) + "!!a" + shut(63):                         api.ErrLong,
-		strings.Repeat("!", 63) + "a":                       api.OK,
-		strings.Repeat("!", 64) + "a":                       api.ErrLong, // so many parts
-		strings.Repeat("!", 64) + long:                      api.ErrTerm,
-		strings.Repeat("!", 64) + ")":                       api.ErrQuery,
-		strings.Repeat("!", 65) + ")":                       api.ErrLong,
-		strings.Repeat("!(", 32) + "a" + shut(32):           api.OK,
-		strings.Repeat("(", 256) + strings.Repeat(")", 256): api.ErrLong,
+	nots := func(n int) string { return strings.Repeat("!", n) }
+	for _, c := range []struct {
+		text  string
+		want  api.Errno
+		parts int
+	}{
+		{open(63) + "a" + shut(63), api.OK, 1},
+		{open(63) + "a b" + shut(63) + "c", api.OK, 5},
+		{open(63) + "a|b" + shut(63) + "|c", api.OK, 5},
+		{open(64) + "a" + shut(64), api.ErrLong, 0},
+		{"a" + open(64) + "a" + shut(64), api.ErrLong, 0},
+		{open(65) + "a" + shut(65), api.ErrLong, 0},
+		{open(256) + shut(256), api.ErrLong, 0},
+		{" " + strings.Repeat("( ", 63) + "a" + shut(63), api.OK, 1},
+		{strings.Repeat("( ", 64) + "a" + shut(64), api.ErrLong, 0},
+		// whatever is there
+		{open(64), api.ErrLong, 0},
+		{open(64) + ")", api.ErrLong, 0},
+		{open(64) + "?", api.ErrLong, 0},
+		{open(64) + long, api.ErrLong, 0},
+		{open(63), api.ErrQuery, 0},
+		{open(63) + ")", api.ErrQuery, 0},
+		{open(63) + "?", api.ErrQuery, 0},
+		{open(63) + long, api.ErrTerm, 0},
+		// the first error from left to right
+		{")" + open(64), api.ErrQuery, 0},
+		{long + open(64), api.ErrTerm, 0},
+		{open(63) + "a" + open(1), api.ErrLong, 0},
+		{open(63) + "a !", api.ErrLong, 0},
+		{open(63) + "!" + long, api.ErrLong, 0},
+		{open(62) + "!a" + shut(62), api.OK, 2},
+		{open(62) + "a!a" + shut(62) + "(b)", api.OK, 6},
+		{open(62) + "!!a" + shut(62), api.ErrLong, 0},
+		// what was nested before does not count
+		{open(63) + "a" + shut(63) + open(63) + "b" + shut(63), api.OK, 3},
+		{open(63) + "a" + shut(63) + open(64) + "b" + shut(64), api.ErrLong, 0},
+		{nots(63) + "a", api.OK, 64},
+		{nots(63), api.ErrQuery, 0},
+		{nots(63) + ")", api.ErrQuery, 0},
+		{nots(63) + long, api.ErrTerm, 0},
+		{nots(64) + "a", api.ErrLong, 0},
+		{nots(64), api.ErrLong, 0},
+		{nots(64) + ")", api.ErrLong, 0},
+		{nots(64) + long, api.ErrLong, 0},
+		{strings.Repeat("!(", 31) + "!a" + shut(31), api.OK, 33},
+		{strings.Repeat("!(", 31) + "(a)" + shut(31), api.OK, 32},
+		{strings.Repeat("!(", 32) + "a" + shut(32), api.ErrLong, 0},
 	} {
-		if q, e := query.Parse(s); e != want || (e == api.OK) != query.Right(q) {
-			t.Errorf("%q %v %d", s, q, e)
+		q, e := query.Parse(c.text)
+		if e != c.want || len(q) != c.parts || (e == api.OK) != query.Right(q) {
+			t.Errorf("%q %v %d", c.text, q, e)
 		}
 	}
 }
